@@ -95,7 +95,7 @@ func TestWrong(t *testing.T) {
 		if want.Step == 2 {
 			want = api.Where{}
 		}
-		if a != want || want.Code != api.OK && objects != nil || want.Code == api.OK && len(objects) != len(x.l) {
+		if a != want || want.Code != api.OK && len(objects) != 0 || want.Code == api.OK && len(objects) != len(x.l) {
 			t.Errorf("Objects: %d: %v, %v", k, objects, a)
 		}
 		if b != x.w || c != x.w || d != x.w {

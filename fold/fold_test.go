@@ -106,7 +106,7 @@ func TestFold(t *testing.T) {
 	}{{[]api.Unit{unit("", 1)}, all(1)}, {[]api.Unit{unit("", 0)}, all(2)}, {[]api.Unit{unit("", 0)}, nil}, {nil, all(1)}, {[]api.Unit{of(4, unit(""))}, all(1)}, {slices.Repeat([]api.Unit{unit("")}, 257), all(257)}} {
 		parts, e := fold.Fold(x.u, x.in)
 		n, f := fold.Saved(x.u, x.in)
-		if parts != nil || e != api.ErrArg || n != 0 || f != api.ErrArg {
+		if len(parts) != 0 || e != api.ErrArg || n != 0 || f != api.ErrArg {
 			t.Errorf("wrong units: %d: %v, %d; %d, %d", k, parts, e, n, f)
 		}
 	}

@@ -49,12 +49,12 @@ func TestIs(t *testing.T) {
 			t.Errorf("Is: %d: %v", k, !x.want)
 		}
 		r, e := graph.Reach(x.u, nil)
-		if (e == api.OK) != x.want || !x.want && (r != nil || e != api.ErrArg) {
+		if (e == api.OK) != x.want || !x.want && (len(r) != 0 || e != api.ErrArg) {
 			t.Errorf("Reach: %d: %v, %d", k, r, e)
 		}
 		if len(x.u) > 0 {
 			l, e := graph.Roots(x.u, 0)
-			if (e == api.OK) != x.want || !x.want && (l != nil || e != api.ErrArg) {
+			if (e == api.OK) != x.want || !x.want && (len(l) != 0 || e != api.ErrArg) {
 				t.Errorf("Roots: %d: %v, %d", k, l, e)
 			}
 		}
@@ -130,7 +130,7 @@ func TestEntryFault(t *testing.T) {
 		{objects(t, ".global m\n.text t\nnop\nm:", ".text t\nbl q\nbl m+9223372036854775803\nbl m-9223372036854775808\nq:"), api.Fault{}},
 		{objects(t, ".text t\nnop\nx: bl x+9223372036854775804\n1: bl 1b+9223372036854775804"), api.Fault{Code: api.ErrRange, Obj: 0, Sym: 1}},
 	} {
-		if u, f := graph.Flat(x.l); f != x.f || f.Code != api.OK && u != nil {
+		if u, f := graph.Flat(x.l); f != x.f || f.Code != api.OK && len(u) != 0 {
 			t.Errorf("Flat: %d: %v, %v", k, u, f)
 		}
 	}
@@ -147,14 +147,14 @@ func TestRootsReach(t *testing.T) {
 		}
 	}
 	for _, entry := range []int{-1, 6, math.MaxInt, math.MinInt} {
-		if l, e := graph.Roots(u, entry); l != nil || e != api.ErrArg {
+		if l, e := graph.Roots(u, entry); len(l) != 0 || e != api.ErrArg {
 			t.Errorf("Roots(%d): %v, %d", entry, l, e)
 		}
-		if l, e := graph.Reach(u, []int{0, entry}); l != nil || e != api.ErrArg {
+		if l, e := graph.Reach(u, []int{0, entry}); len(l) != 0 || e != api.ErrArg {
 			t.Errorf("Reach(%d): %v, %d", entry, l, e)
 		}
 	}
-	if l, e := graph.Roots(nil, 0); l != nil || e != api.ErrArg {
+	if l, e := graph.Roots(nil, 0); len(l) != 0 || e != api.ErrArg {
 		t.Errorf("Roots of none: %v, %d", l, e)
 	}
 	for _, x := range []struct {

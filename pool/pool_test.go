@@ -120,7 +120,7 @@ func TestLimit(t *testing.T) {
 
 func TestNone(t *testing.T) {
 	var p *pool.Pool
-	if at, e := p.Put(api.Need{Kind: 10}); at != 0 || e != api.ErrArg || p.Take() != nil || p.Size() != 0 {
+	if at, e := p.Put(api.Need{Kind: 10}); at != 0 || e != api.ErrArg || len(p.Take()) != 0 || p.Size() != 0 {
 		t.Errorf("of no pool: %d, %d", at, e)
 	}
 	var zero pool.Pool

@@ -116,7 +116,7 @@ func TestIs(t *testing.T) {
 	} {
 		_, e := shrink.Refs(u, x.k, 1)
 		lost, f := shrink.Lost(u, x.k)
-		if shrink.Is(u, x.k) != x.want || !x.want && (e != api.ErrArg || f != api.ErrArg || lost != nil) || x.want && f != api.OK {
+		if shrink.Is(u, x.k) != x.want || !x.want && (e != api.ErrArg || f != api.ErrArg || len(lost) != 0) || x.want && f != api.OK {
 			t.Errorf("Is: %d: %v; %d, %d", k, !x.want, e, f)
 		}
 	}
@@ -141,7 +141,7 @@ func TestRefs(t *testing.T) {
 		t.Error("Refs shares its memory")
 	}
 	for _, at := range []int{2, 4, -1, math.MaxInt} {
-		if l, e := shrink.Refs(u, k, at); l != nil || e != api.ErrArg {
+		if l, e := shrink.Refs(u, k, at); len(l) != 0 || e != api.ErrArg {
 			t.Errorf("Refs(%d): %v, %d", at, l, e)
 		}
 	}

@@ -33,7 +33,7 @@ func TestCheck(t *testing.T) {
 			t.Errorf("Check: %d: %d", k, e)
 		}
 		all, f := sym.Resolve(x.l)
-		if f != (api.Fault{Code: x.e}) || x.e != api.OK && all != nil || x.e == api.OK && len(all) != len(x.l) {
+		if f != (api.Fault{Code: x.e}) || x.e != api.OK && len(all) != 0 || x.e == api.OK && len(all) != len(x.l) {
 			t.Errorf("Resolve: %d: %v", k, f)
 		}
 	}

@@ -104,7 +104,7 @@ func TestLay(t *testing.T) {
 		}
 	}
 	k.Align[0] = 1
-	if at, vs, e := veneer.Lay(u, k, o, nil); at != nil || vs != nil || e != api.ErrArg {
+	if at, vs, e := veneer.Lay(u, k, o, nil); len(at) != 0 || len(vs) != 0 || e != api.ErrArg {
 		t.Errorf("Lay of wrong alignments: %v, %v, %d", at, vs, e)
 	}
 }
@@ -151,7 +151,7 @@ func TestWrong(t *testing.T) {
 	} {
 		at, vs, e := veneer.Lay(x.u, x.k, x.o, x.v)
 		w, f := veneer.Wants(x.u, x.k, x.o, x.v)
-		if e != x.e || f != x.e || e != api.OK && (at != nil || vs != nil || w != nil) {
+		if e != x.e || f != x.e || e != api.OK && (len(at) != 0 || len(vs) != 0 || len(w) != 0) {
 			t.Errorf("%d: %d, %d", n, e, f)
 		}
 		p, g := veneer.Plan(x.u, x.k, x.o)
@@ -204,7 +204,7 @@ func TestWants(t *testing.T) {
 	}
 	back := apart(unit(4096), unit(4096), unit(12, 0, 0, 0))
 	back[2].Refs[1].Add, back[2].Refs[2].Add = 4, 8
-	if l, e := veneer.Wants(back, whole(t, back), o, nil); l != nil || e != api.OK {
+	if l, e := veneer.Wants(back, whole(t, back), o, nil); len(l) != 0 || e != api.OK {
 		t.Errorf("Wants downward: %v, %d", l, e)
 	}
 	back[2].Refs[0].Add, back[2].Refs[2].Add = -4, 4
@@ -213,11 +213,11 @@ func TestWants(t *testing.T) {
 	}
 	near := row(0, 3)
 	near[0].Data, near[0].Refs[0].Kind = "\x00\x00\x00\x10", 5
-	if l, e := veneer.Wants(near, whole(t, near), o, nil); l != nil || e != api.OK {
+	if l, e := veneer.Wants(near, whole(t, near), o, nil); len(l) != 0 || e != api.OK {
 		t.Errorf("Wants of what is no call: %v, %d", l, e)
 	}
 	o.Reach = 8196
-	if l, _ := veneer.Wants(row(0, 3), whole(t, row(0, 3)), o, nil); l != nil {
+	if l, _ := veneer.Wants(row(0, 3), whole(t, row(0, 3)), o, nil); len(l) != 0 {
 		t.Errorf("Wants with more reach: %v", l)
 	}
 }
