@@ -60,6 +60,7 @@ func TestLink(t *testing.T) {
 		{[]string{lines(".global main", ".text t", "main: bl f", "bl g", "svc #0", ".text f", "f: nop", "ret", ".text g", ".align 4", "g: nop", "ret", ".text h", "nop", "ret")},
 			api.Image{Entry: 65536, Stack: 67108864, Segs: []api.Region{{At: 65536, Kind: 1, Data: bl(16) + bl(12) + svc}, {At: 65552, Kind: 1, Data: word(api.Inst{Op: 38}) + word(api.Inst{Op: 36, N: 30})}}},
 			[]uint64{65536, 65552, 65552, 0}},
+		{[]string{lines(".text f", "f: ret", ".text g", "g: ret", ".global main", ".text t", "main: bl g", "bl f", "svc #0")}, api.Image{Entry: 65540, Stack: 67108864, Segs: []api.Region{{At: 65536, Kind: 1, Data: word(api.Inst{Op: 36, N: 30})}, {At: 65540, Kind: 1, Data: bl(-4) + bl(-8) + svc}}}, []uint64{65536, 65536, 65540}},
 		{[]string{lines(".global main", ".text t", "main:")}, api.Image{Entry: 65536, Stack: 67108864}, []uint64{65536}},
 		{[]string{lines(".weak main", ".text t", "main: svc #0"), lines(".global main", ".text t", "nop", "main: svc #0")}, api.Image{Entry: 65540, Stack: 67108864, Segs: []api.Region{{At: 65536, Kind: 1, Data: word(api.Inst{Op: 38}) + svc}}}, []uint64{0, 65536}},
 	} {

@@ -35,7 +35,7 @@ func TestSplit(t *testing.T) {
 	}{
 		{"", nil, "", api.OK}, {"nop", nil, "nop", api.OK}, {"1: a: b 1b", []string{"1", "a"}, "b 1b", api.OK}, {"a:", []string{"a"}, "", api.OK}, {"0001:9999:x31:", []string{"0001", "9999", "x31"}, "", api.OK},
 		{"a: :", []string{"a"}, ":", api.OK}, {": a", nil, ": a", api.OK}, {"a : b", []string{"a"}, "b", api.OK}, {"\"a\": b", nil, "\"a\": b", api.OK}, {"'a': b", nil, "'a': b", api.OK}, {"nop a:", nil, "nop a:", api.OK}, {"#:lo12:a", nil, "#:lo12:a", api.OK}, {"lo12:a", []string{"lo12"}, "a", api.OK}, {"a: add x1, x2, :lo12:b", []string{"a"}, "add x1, x2, :lo12:b", api.OK},
-		{"x1: nop", nil, "", api.ErrForm}, {"sp:", nil, "", api.ErrForm}, {"lsl: nop", nil, "", api.ErrForm}, {"1f: nop", nil, "", api.ErrForm}, {"12345: nop", nil, "", api.ErrForm}, {"0x1: nop", nil, "", api.ErrForm}, {"a: 1: xzr: nop", nil, "", api.ErrForm}, {strings.Repeat("a", 32) + ":", nil, "", api.ErrForm}, {"1a:", nil, "", api.ErrForm},
+		{"x1: nop", nil, "", api.ErrForm}, {"sp:", nil, "", api.ErrForm}, {"lsl: nop", nil, "", api.ErrForm}, {"1f: nop", nil, "", api.ErrForm}, {"12345: nop", nil, "", api.ErrForm}, {"0x1: nop", nil, "", api.ErrForm}, {"a: 1: xzr: nop", nil, "", api.ErrForm}, {strings.Repeat("a", 32) + ":", nil, "", api.ErrForm}, {"1a:", nil, "", api.ErrForm}, {"1.: nop", nil, "", api.ErrForm}, {"1$2:", nil, "", api.ErrForm},
 	} {
 		l, _ := lex.Line(x.s)
 		given := slices.Clone(l)

@@ -144,6 +144,9 @@ func TestText(t *testing.T) {
 
 func TestNone(t *testing.T) {
 	var none *mem.Memory
+	if v, e := none.Load(1, 8); v != 0 || e != api.ErrArg {
+		t.Errorf("Load of no memory: %d, %d", v, e)
+	}
 	v, a := none.Load(1, 3)
 	b := none.Store(1, 8, 1)
 	w, c := none.Word(1)

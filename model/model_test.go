@@ -41,7 +41,7 @@ func told(x api.Trace) string {
 	return s + fmt.Sprint(" steps ", x.Steps)
 }
 
-// sections stand behind the code of each case: the units 1 to 5; the stack is 6.
+// sections stand behind the code of each case: the units 1 to 7; the stack is 8.
 const sections = `
 .text g
 g: adr x9, g
@@ -61,6 +61,13 @@ nop
 e: .byte 0, 0
 .quad d
 .byte 0, 0x14
+.data n
+n: nop
+svc #0
+.text h
+h: .byte 0, 0
+.byte 0x1f, 0x20, 3, 0xd5
+.byte 1, 0, 0, 0xd4
 `
 
 // cases are lines, with ; between, and what running them tells.
@@ -216,8 +223,22 @@ func cases() map[string]string {
 		"adr x30, g+4; blr x30; svc #0": "[] halt 0 steps 4",
 		"adr x1, g+2; br x1":            "[] error 10 steps 2",
 		"b c1":                          "[] error 10 steps 1",
-		"b c1+8":                        "[] error 10 steps 1",
-		"b e+8":                         "[] error 10 steps 1",
+		"b n":                           "[] error 10 steps 1",
+		"adr x1, n; br x1":              "[] error 10 steps 1",
+		"b h+2":                         "[] error 10 steps 1",
+		"adr x1, h+2; blr x1":           "[] error 10 steps 2",
+		"adr x1, d; str x1, [sp]":       "[] error 10 steps 1",
+		"adr x1, d; str x1, [x1, #32]":  "[] error 10 steps 1",
+		"adr x1, d+25; str x1, [x1]":    "[] error 10 steps 1",
+		"adr x1, d; movz x2, #0x1234; movk x2, #0x5678, lsl #48; str x2, [x1]; ldr x0, [x1]; svc #1; ldrb x0, [x1, #7]; svc #1; ldrb x0, [x1, #1]; svc #0": "[6230730084467085876 86] halt 18 steps 10",
+		"movz x1, #5; add x0, x1, xzr; svc #0":                     "[] halt 5 steps 3",
+		"movz x1, #5; madd x0, x1, x1, xzr; svc #0":                "[] halt 25 steps 3",
+		"adr x1, g+8; movz x2, #4; sub x1, x1, x2; blr x1; svc #0": "[] halt 0 steps 6",
+		"adr x1, g+8; sub x1, x1, #4; blr x1; svc #0":              "[] halt 0 steps 5",
+		"adr x1, d; adr x2, d+32; subs x0, x1, x2; svc #0":         "[] halt 18446744073709551584 steps 4",
+		"adr x1, d; adr x2, d+33; subs x0, x1, x2":                 "[] error 10 steps 2",
+		"b c1+8": "[] error 10 steps 1",
+		"b e+8":  "[] error 10 steps 1",
 
 		"str x0, [sp]": "[] error 10 steps 0",
 		"movz x1, #5; sub sp, sp, #16; str x1, [sp, #8]; ldr x0, [sp, #8]; svc #0":                              "[] halt 5 steps 5",

@@ -107,7 +107,14 @@ func TestIsPut(t *testing.T) {
 	for range 121 {
 		big.Syms = append(big.Syms, api.Sym{Bind: 1})
 	}
-	for k, o := range []api.Object{{}, sample(), big} {
+	most := api.Object{
+		Secs: secs{{Name: strings.Repeat("s", 31), Kind: 1, Align: 12, Data: strings.Repeat(bl, 1024)}},
+		Syms: syms{{Name: strings.Repeat("n", 31), Bind: 2, Off: 4096}},
+	}
+	for k := range 64 {
+		most.Secs[0].Rels = append(most.Secs[0].Rels, api.Rel{At: 4 * k, Kind: 2, Add: math.MinInt})
+	}
+	for k, o := range []api.Object{{}, sample(), big, most} {
 		s, e := obj.Put(o)
 		back, f := obj.Get(s)
 		if !obj.Is(o) || e != api.OK || f != api.OK || !same(o, back) {
@@ -181,7 +188,7 @@ func TestGet(t *testing.T) {
 	for k := range sampleBytes {
 		wrong(sampleBytes[:k])
 	}
-	for _, s := range []string{sampleBytes + "\x00", "cleat" + sampleBytes[5:], "CLEAT\x02" + sampleBytes[6:], "CLEAT\x01\x00", "CLEAT\x01\x80\x00\x00", "CLEAT\x01\x00\x80\x00", "CLEAT\x01\x00\x00\x00", strings.Replace(sampleBytes, "t\x01\x01", "t\x01\x02", 1), strings.Replace(sampleBytes, "\x02\x08"+bl, "\x02\x88\x00"+bl, 1), "CLEAT\x01\xff\xff\xff\xff\xff\xff\xff\xff\xff\x01", "CLEAT\x01\x00\xff\xff\xff\xff\xff\xff\xff\xff\xff\x01", "CLEAT\x01\x00\x01\x00\x01\x80\x80\x80\x80\x80\x80\x80\x80\x80\x01\x00"} {
+	for _, s := range []string{"", "\x00\x00", sampleBytes[6:], "x" + sampleBytes, sampleBytes + "\x00", "cleat" + sampleBytes[5:], "CLEAT\x02" + sampleBytes[6:], "CLEAT\x01\x00", "CLEAT\x01\x80\x00\x00", "CLEAT\x01\x00\x80\x00", "CLEAT\x01\x00\x00\x00", strings.Replace(sampleBytes, "t\x01\x01", "t\x01\x02", 1), strings.Replace(sampleBytes, "\x02\x08"+bl, "\x02\x88\x00"+bl, 1), "CLEAT\x01\xff\xff\xff\xff\xff\xff\xff\xff\xff\x01", "CLEAT\x01\x00\xff\xff\xff\xff\xff\xff\xff\xff\xff\x01", "CLEAT\x01\x00\x01\x00\x01\x80\x80\x80\x80\x80\x80\x80\x80\x80\x01\x00"} {
 		wrong(s)
 	}
 }
